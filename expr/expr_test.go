@@ -63,7 +63,7 @@ func wantEval(t *testing.T, n check.Node, rows [][]api.Value, want api.Value, co
 	wantRow(t, []check.Node{n}, rows, list, code)
 	truth := api.Unknown
 	if code == api.OK {
-		truth, code = value.Truth(want)
+		truth, code = truthTold(want)
 	}
 	wantAll(t, []check.Node{n}, rows, code == api.OK && truth == api.True, code)
 }
@@ -227,7 +227,8 @@ func rising() []api.Value {
 // wrong is values that aren't right.
 func wrong() []api.Value {
 	return []api.Value{
-		{N: 1}, {S: "a"}, {Kind: api.Bool, N: 2}, {Kind: api.Bool, N: -1}, {Kind: api.Bool, N: 1, S: "a"}, {Kind: api.Int, N: 7, S: "7"},
+		{N: 1}, {S: "a"}, {Kind: api.Bool, N: 2}, {Kind: api.Bool, N: -1}, {Kind: api.Bool, N: math.MaxInt}, {Kind: api.Bool, S: "a"},
+		{Kind: api.Bool, N: 1, S: "a"}, {Kind: api.Int, N: 7, S: "7"},
 		{Kind: api.Text, N: 1}, {Kind: api.Text, S: strings.Repeat("x", api.MaxText+1)}, {Kind: -1}, {Kind: 4}, {Kind: math.MaxInt, N: 1, S: "a"},
 	}
 }
@@ -323,15 +324,15 @@ func TestWrongValues(t *testing.T) {
 				wantEval(t, op(name, val(b), val(a)), nil, null, api.ErrArg)
 			}
 		}
-		truth, code := value.Truth(a)
-		want := value.Of(value.Not(truth))
+		truth, code := truthTold(a)
+		want := []api.Value{yes, no, null}[truth]
 		if code != api.OK {
 			want = null
 		}
 		wantEval(t, op("not", val(a)), nil, want, code)
 	}
-	wantEval(t, op("not", val(api.Value{Kind: api.Bool, N: 2})), nil, null, api.ErrType)
-	wantEval(t, op("and", val(yes), val(api.Value{Kind: api.Bool, N: 2})), nil, null, api.ErrType)
+	wantEval(t, op("not", val(api.Value{Kind: api.Bool, N: 2})), nil, null, api.OK)
+	wantEval(t, op("and", val(yes), val(api.Value{Kind: api.Bool, N: 2})), nil, null, api.OK)
 	wantEval(t, op("or", val(api.Value{Kind: 4}), val(yes)), nil, null, api.ErrType)
 }
 

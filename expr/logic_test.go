@@ -88,7 +88,7 @@ func TestAllOthersLookAtBothKids(t *testing.T) {
 // Kids that have no truth: the first one's error is there whatever the second one is, the second one's only if it counts.
 func TestKidsThatAreNoTruths(t *testing.T) {
 	for _, name := range []string{"and", "or"} {
-		for _, v := range []api.Value{number(0), number(1), text(""), text("TRUE"), {Kind: api.Bool, N: 2}, {Kind: 4}} {
+		for _, v := range []api.Value{number(0), number(1), text(""), text("TRUE"), {Kind: api.Int, N: 1, S: "a"}, {Kind: -1}, {Kind: 4}} {
 			for _, w := range []api.Value{null, no, yes, number(0), text("a")} {
 				wantEval(t, op(name, val(v), val(w)), nil, null, api.ErrType)
 			}
@@ -126,5 +126,73 @@ func TestTheFirstError(t *testing.T) {
 		wantEval(t, op("+", op("+", val(number(1)), val(text("a"))), first), nil, null, api.ErrType)
 		wantEval(t, op("and", op("not", val(number(1))), first), nil, null, api.ErrType)
 		wantEval(t, op("or", op("<", val(yes), val(number(1))), first), nil, null, api.ErrType)
+	}
+}
+
+// neither is Bools whose N is neither 0 nor 1: they aren't right, but Bools they are, whose truth is Unknown.
+func neither() []api.Value {
+	var l []api.Value
+	for _, n := range []int{math.MinInt, -1 << 32, -2, -1, 2, 3, 255, 256, 257, 1 << 32, 1<<32 + 1, 1 << 62, math.MaxInt} {
+		l = append(l, boolean(n), api.Value{Kind: api.Bool, N: n, S: "a"})
+	}
+	return l
+}
+
+func TestBoolsThatAreNeitherFalseNorTrue(t *testing.T) {
+	for _, v := range neither() {
+		rows := [][]api.Value{{v}}
+		for _, n := range nodes(val(v), column(0, 0)) {
+			wantEval(t, n, rows, v, api.OK)
+			wantEval(t, op("not", n), rows, null, api.OK)
+			wantEval(t, op("not", op("not", n)), rows, null, api.OK)
+			wantEval(t, op("null", n), rows, no, api.OK)
+			wantEval(t, op("null", op("not", n)), rows, yes, api.OK)
+			for _, x := range []struct{ other, and, or api.Value }{{no, no, null}, {yes, null, yes}, {null, null, null}, {v, null, null}} {
+				for _, other := range nodes(val(x.other), op("or", val(x.other), val(x.other))) {
+					wantEval(t, op("and", n, other), rows, x.and, api.OK)
+					wantEval(t, op("and", other, n), rows, x.and, api.OK)
+					wantEval(t, op("or", n, other), rows, x.or, api.OK)
+					wantEval(t, op("or", other, n), rows, x.or, api.OK)
+				}
+			}
+		}
+	}
+}
+
+// Unknown settles nothing: the second Kid is looked at, and its error met.
+func TestBoolsThatAreNeitherSettleNothing(t *testing.T) {
+	for _, v := range neither() {
+		for _, name := range []string{"and", "or"} {
+			for code, bad := range failing() {
+				wantEval(t, op(name, val(v), bad), nil, null, code)
+				wantEval(t, op(name, bad, val(v)), nil, null, code)
+			}
+			for _, w := range []api.Value{number(0), number(1), text("a"), {Kind: 4}} {
+				wantEval(t, op(name, val(v), val(w)), nil, null, api.ErrType)
+				wantEval(t, op(name, val(w), val(v)), nil, null, api.ErrType)
+			}
+		}
+		// Reckoned or compared they are still wrong.
+		wantEval(t, op("neg", val(v)), nil, null, api.ErrArg)
+		wantEval(t, op("=", val(v), val(yes)), nil, null, api.ErrArg)
+		wantEval(t, op("<>", val(null), val(v)), nil, null, api.ErrArg)
+	}
+}
+
+func TestAllOfBoolsThatAreNeither(t *testing.T) {
+	for _, v := range neither() {
+		rows := [][]api.Value{{v}}
+		for _, n := range nodes(val(v), column(0, 0), op("not", val(v)), op("and", val(yes), val(v)), op("or", val(v), val(no))) {
+			wantAll(t, nodes(n), rows, false, api.OK)
+			wantAll(t, nodes(n, val(yes)), rows, false, api.OK)
+			wantAll(t, nodes(val(yes), n), rows, false, api.OK)
+			wantAll(t, nodes(n, n), rows, false, api.OK)
+			for code, bad := range failing() {
+				wantAll(t, nodes(n, bad), rows, false, api.OK)
+				wantAll(t, nodes(val(yes), n, bad), rows, false, api.OK)
+				wantAll(t, nodes(bad, n), rows, false, code)
+			}
+		}
+		wantRow(t, nodes(val(v), op("not", val(v)), column(0, 0)), rows, []api.Value{v, null, v}, api.OK)
 	}
 }

@@ -103,13 +103,13 @@ func (m *machine) do(s step) (api.Value, api.Errno) {
 		}
 		return api.Value{}, api.ErrArg
 	case "truth":
-		t, e := value.Truth(m.pop())
+		t, e := truthTold(m.pop())
 		return value.Of(t), e
 	case "null":
 		v := m.pop()
 		return boolean(map[bool]int{true: 1}[v.Kind == 0 && v.N == 0 && v.S == ""]), api.OK
 	case "not":
-		t, e := value.Truth(m.pop())
+		t, e := truthTold(m.pop())
 		return []api.Value{yes, no, null}[t], e
 	case "neg":
 		return value.Reckon("-", number(0), m.pop())
@@ -143,6 +143,18 @@ func (m *machine) two(name string) (api.Value, api.Errno) {
 	return []api.Value{no, yes, null}[t], e
 }
 
+// truthTold is a value's truth by layer 2's words: the Kind tells which values have one, and of a Bool what is neither
+// False nor True counts as Unknown.
+func truthTold(v api.Value) (int, api.Errno) {
+	switch {
+	case v.Kind == api.Bool && (v.N == api.False || v.N == api.True):
+		return v.N, api.OK
+	case v.Kind == api.Bool || v.Kind == api.Null:
+		return api.Unknown, api.OK
+	}
+	return 0, api.ErrType
+}
+
 // toldAll and toldRow tell node by node.
 func toldAll(l []check.Node, rows [][]api.Value) (bool, api.Errno) {
 	for _, n := range l {
@@ -150,7 +162,7 @@ func toldAll(l []check.Node, rows [][]api.Value) (bool, api.Errno) {
 		if e != api.OK {
 			return false, e
 		}
-		if truth, e := value.Truth(v); e != api.OK || truth != api.True {
+		if truth, e := truthTold(v); e != api.OK || truth != api.True {
 			return false, e
 		}
 	}

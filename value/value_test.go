@@ -404,14 +404,46 @@ func TestTruth(t *testing.T) {
 			t.Errorf("%#v: %d and %d", v, g, e)
 		}
 	}
-	for _, kind := range []int{-1, 4, 5, math.MinInt, math.MaxInt} {
-		if g, e := value.Truth(api.Value{Kind: kind, N: 1}); g != 0 || e != api.ErrType {
-			t.Errorf("kind %d: %d and %d", kind, g, e)
+	for _, v := range wrong() {
+		wantTruthByKind(t, v)
+	}
+}
+
+// wantTruthByKind asks for a truth of NULLs and Bools alone, right or not: of what is neither False nor True Unknown.
+func wantTruthByKind(t *testing.T, v api.Value) {
+	t.Helper()
+	want, code := 0, api.ErrType
+	switch v.Kind {
+	case api.Null:
+		want, code = api.Unknown, api.OK
+	case api.Bool:
+		want, code = []int{api.False, api.Unknown, api.True}[place(v.N)], api.OK
+	}
+	if g, e := value.Truth(v); g != want || e != code {
+		t.Errorf("%#v: %d and %d, not %d and %d", v, g, e, want, code)
+	}
+}
+
+func TestTruthOfBools(t *testing.T) {
+	for n, want := range map[int]int{
+		math.MinInt: api.Unknown, -1 << 32: api.Unknown, -256: api.Unknown, -2: api.Unknown, -1: api.Unknown, 0: api.False, 1: api.True, 2: api.Unknown, 3: api.Unknown,
+		255: api.Unknown, 256: api.Unknown, 257: api.Unknown, 1 << 32: api.Unknown, 1<<32 + 1: api.Unknown, 1 << 62: api.Unknown, math.MaxInt: api.Unknown,
+	} {
+		for _, s := range []string{"", "a"} {
+			if g, e := value.Truth(api.Value{Kind: api.Bool, N: n, S: s}); g != want || e != api.OK {
+				t.Errorf("the Bool of %d and %q: %d and %d, not %d and OK", n, s, g, e, want)
+			}
 		}
 	}
-	for _, v := range wrong() {
-		if g, e := value.Truth(v); g < 0 || g > 2 || (e != api.OK && g != 0) {
-			t.Errorf("%#v: %d and %d, which is no truth", v, g, e)
+}
+
+func TestTruthOfEachKind(t *testing.T) {
+	kinds := []int{math.MinInt, -2, -1, api.Null, api.Bool, api.Int, api.Text, 4, 5, 255, 256, 257, 1 << 32, 1<<32 + api.Bool, math.MaxInt}
+	for _, kind := range kinds {
+		for _, n := range odd() {
+			for _, s := range []string{"", "a", "TRUE"} {
+				wantTruthByKind(t, api.Value{Kind: kind, N: n, S: s})
+			}
 		}
 	}
 }
